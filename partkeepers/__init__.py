@@ -1,0 +1,1 @@
+"""Partkeepers: which counts keep causal order when copies keep only some keys."""
